@@ -1,0 +1,19 @@
+"""Fractions: tuples (top, bottom) in lowest terms, bottom from 1 on."""
+
+from leapranks.wholes import are_wholes, common_divisor
+
+
+def fraction(top, bottom):
+    """The fraction of top over bottom, a whole number but 0."""
+    divisor = common_divisor(top, bottom)
+    if bottom < 0:
+        divisor = -divisor
+    return (top // divisor, bottom // divisor)
+
+
+def is_fraction(thing):
+    """Whether a thing is a fraction in lowest terms."""
+    if not are_wholes(2, thing):
+        return False
+    top, bottom = thing
+    return bottom >= 1 and common_divisor(top, bottom) == 1

@@ -1,0 +1,146 @@
+"""The package's files keep to the small Python that the program is written in.
+
+Not every rule can be looked at here; these are the ones that are broken most easily.
+"""
+
+import ast
+import builtins
+import pathlib
+import re
+import unittest
+
+PACKAGE = pathlib.Path(__file__).resolve().parent.parent / "leapranks"
+FILES = sorted(path for path in PACKAGE.iterdir() if path.name != "__pycache__")
+
+BUILTINS = set("""len range enumerate zip min max sum abs sorted reversed int str bool bytes list tuple dict
+set frozenset isinstance ord repr any all divmod Exception ValueError TypeError KeyError IndexError LookupError
+ZeroDivisionError ArithmeticError OverflowError RuntimeError NotImplementedError AttributeError StopIteration
+NotImplemented iter next super property staticmethod classmethod""".split())
+METHODS = set("""append clear copy count endswith extend find get index insert isalnum isalpha isdigit islower
+isspace isupper items join keys ljust lower lstrip partition pop remove replace reverse rfind rjust rpartition
+rsplit rstrip setdefault split splitlines startswith strip update upper values zfill bit_length sort add discard
+isascii isdecimal removeprefix removesuffix rindex __init__""".split())
+BARRED_WORDS = re.compile(r"\b(type|typing|typing_extensions|enum|Enum|IntEnum|StrEnum|Flag|IntFlag|Generic|"
+                          r"Protocol|ABC|ABCMeta|namedtuple|NamedTuple|TypedDict|TYPE_CHECKING|"
+                          r"abstractmethod)\b|dataclass|overload|contextmanager")
+BARRED_NAMES = set("""register mro elements open input law version_info with_traceback add_note attrgetter
+breakpoint builtins compile copyright credits delattr dir eval exec exit gc getattr globals hasattr help id
+importlib license locals methodcaller os quit setattr type vars sys""".split())
+BARRED_NODES = (ast.Global, ast.AsyncFunctionDef, ast.AsyncFor, ast.AsyncWith, ast.Await, ast.Div, ast.MatMult,
+                ast.Import)
+
+
+def trees():
+    return [(path, ast.parse(path.read_text(encoding="ascii"))) for path in FILES]
+
+
+def bound_names(tree):
+    """All names that a file gives to something: at module level and within."""
+    for node in ast.walk(tree):
+        if isinstance(node, (ast.FunctionDef, ast.ClassDef)):
+            yield node.name
+        elif isinstance(node, ast.arg):
+            yield node.arg
+        elif isinstance(node, ast.Name) and isinstance(node.ctx, ast.Store):
+            yield node.id
+        elif isinstance(node, ast.alias):
+            yield node.asname or node.name
+
+
+class LanguageTest(unittest.TestCase):
+    def test_files(self):
+        self.assertTrue(FILES)
+        for path in FILES:
+            self.assertRegex(path.name, r"^[a-z_][a-z0-9_]*\.py$")
+            self.assertNotIn(path.stem, vars(builtins))
+
+    def test_characters_lines_and_words(self):
+        for path in FILES:
+            text = path.read_bytes().decode("ascii")
+            self.assertRegex(text, r"\A[ -~\n]*\Z", path)
+            self.assertLessEqual(len(text.splitlines()), 399, path)
+            self.assertLessEqual(max(len(line) for line in text.splitlines()), 120, path)
+            self.assertIsNone(BARRED_WORDS.search(text), path)
+
+    def test_functions_are_short(self):
+        for path, tree in trees():
+            for node in ast.walk(tree):
+                if isinstance(node, ast.FunctionDef):
+                    self.assertLessEqual(node.end_lineno - node.lineno + 1, 40, (path, node.name))
+
+    def test_module_level(self):
+        for path, tree in trees():
+            for node in tree.body[1:]:
+                self.assertIsInstance(node, (ast.ImportFrom, ast.FunctionDef, ast.ClassDef, ast.Assign), path)
+            self.assertIsNotNone(ast.get_docstring(tree), path)
+
+    def test_imports_name_the_file_that_defines_the_name(self):
+        for path, tree in trees():
+            for node in ast.walk(tree):
+                if isinstance(node, ast.ImportFrom):
+                    self.assertEqual(node.level, 0, path)
+                    self.assertRegex(node.module, r"^leapranks\.[a-z]+$")
+                    source = ast.parse((PACKAGE / (node.module.split(".")[1] + ".py")).read_text())
+                    made = {part.name for part in source.body if isinstance(part, (ast.FunctionDef, ast.ClassDef))}
+                    made |= {part.targets[0].id for part in source.body if isinstance(part, ast.Assign)}
+                    for alias in node.names:
+                        self.assertIn(alias.name, made, path)
+
+    def test_no_imports_in_a_ring(self):
+        needs = {path.stem: {node.module.split(".")[1] for node in ast.walk(tree)
+                             if isinstance(node, ast.ImportFrom)} for path, tree in trees()}
+        while needs:
+            ready = [name for name in needs if not needs[name] & set(needs)]
+            self.assertTrue(ready, needs)
+            for name in ready:
+                del needs[name]
+
+    def test_names(self):
+        for path, tree in trees():
+            for name in bound_names(tree):
+                if name != "__init__":
+                    self.assertNotRegex(name, r"^_", path)
+                    self.assertNotIn(name, BARRED_NAMES, path)
+                    self.assertNotIn(name, vars(builtins), path)
+
+    def test_no_inner_name_hides_one_of_the_module(self):
+        for path, tree in trees():
+            outer = [name for node in tree.body for name in
+                     ([node.name] if isinstance(node, (ast.FunctionDef, ast.ClassDef)) else
+                      [alias.name for alias in node.names] if isinstance(node, ast.ImportFrom) else
+                      [target.id for target in node.targets] if isinstance(node, ast.Assign) else [])]
+            self.assertEqual(len(outer), len(set(outer)), path)
+            for node in tree.body:
+                if isinstance(node, ast.FunctionDef):
+                    inner = set(bound_names(node)) - {node.name}
+                    self.assertFalse(inner & set(outer), (path, node.name))
+
+    def test_builtins_and_methods(self):
+        for path, tree in trees():
+            made = set(bound_names(tree))
+            fields = {node.attr for node in ast.walk(tree)
+                      if isinstance(node, ast.Attribute) and isinstance(node.ctx, ast.Store)}
+            for node in ast.walk(tree):
+                if isinstance(node, ast.Name) and node.id not in made:
+                    self.assertIn(node.id, BUILTINS, path)
+                if isinstance(node, ast.Attribute) and node.attr not in made:
+                    self.assertIn(node.attr, METHODS | fields, path)
+
+    def test_statements_and_values(self):
+        for path, tree in trees():
+            for node in ast.walk(tree):
+                self.assertNotIsInstance(node, BARRED_NODES, path)
+                if isinstance(node, ast.Constant):
+                    self.assertNotIsInstance(node.value, (float, complex), path)
+                    if isinstance(node.value, str):
+                        self.assertNotIn("%", node.value, path)
+                if isinstance(node, ast.Compare):
+                    for sign, right in zip(node.ops, node.comparators):
+                        if isinstance(sign, (ast.Is, ast.IsNot)):
+                            self.assertIsInstance(right, ast.Constant, path)
+                if isinstance(node, ast.BinOp) and isinstance(node.op, ast.Pow):
+                    self.assertIsInstance(node.right, ast.Constant, path)
+
+
+if __name__ == "__main__":
+    unittest.main()
