@@ -99,3 +99,10 @@ def left_alone(test, call, *handed):
 def with_part(things, at, part):
     """The tuple with one part exchanged."""
     return things[:at] + (part,) + things[at + 1:]
+
+
+def some_split(numbers, many, most=20):
+    """A split made without the program: one number is 1, so nothing divides all."""
+    parts = [numbers.between(0, most) for k in range(many)]
+    parts[numbers.below(many)] = 1
+    return (tuple(parts), sum(parts))

@@ -33,3 +33,20 @@ def distance(one, other):
 
 def as_pair(one):
     return (one.numerator, one.denominator)
+
+
+def shares_by_elimination(web):
+    """The parts of walkers that a turn leaves as they are, by plain elimination."""
+    many = len(web[0])
+    leap = Fraction(*web[3])
+    chances = [chances_from(web, a) for a in range(many)]
+    lines = [[Fraction(int(a == j)) - (1 - leap) * chances[a][j] for a in range(many)]
+             + [leap * Fraction(web[2][j], sum(web[2]))] for j in range(many)]
+    for at in range(many):
+        pivot = next(k for k in range(at, many) if lines[k][at])
+        lines[at], lines[pivot] = lines[pivot], lines[at]
+        lines[at] = [x / lines[at][at] for x in lines[at]]
+        for k in range(many):
+            if k != at:
+                lines[k] = [x - lines[k][at] * y for x, y in zip(lines[k], lines[at])]
+    return [line[-1] for line in lines]
