@@ -15,3 +15,10 @@ def column_of(web, a):
 def size_of(web, a):
     """The size of the place a: its column's number at its own place."""
     return column_of(web, a)[a]
+
+
+def lines_of(web):
+    """For each place j a list: each column's number at j, place by place."""
+    places = list(range(len(web[0])))
+    columns = [column_of(web, a) for a in places]
+    return [[column[j] for column in columns] for j in places]

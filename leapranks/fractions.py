@@ -17,3 +17,8 @@ def is_fraction(thing):
         return False
     top, bottom = thing
     return bottom >= 1 and common_divisor(top, bottom) == 1
+
+
+def is_less(one, other):
+    """Whether one fraction is less than another one."""
+    return one[0] * other[1] < other[0] * one[1]

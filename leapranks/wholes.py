@@ -11,6 +11,16 @@ def are_wholes(many, thing):
     return isinstance(thing, tuple) and len(thing) == many and all(is_whole(one) for one in thing)
 
 
+def has_each_once(many, thing):
+    """Whether a thing is a tuple with each number from 0 to below many once."""
+    return are_wholes(many, thing) and sorted(thing) == list(range(many))
+
+
+def sum_of_products(ones, others):
+    """The sum of the products of two rows of numbers, place by place."""
+    return sum(x * y for x, y in zip(ones, others))
+
+
 def common_divisor(one, other):
     """The greatest number that divides both, from 0 on; 0 where both are 0."""
     one, other = abs(one), abs(other)

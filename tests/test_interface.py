@@ -16,6 +16,12 @@ LISTED = {
     "exact": ("exact_lot(web)",),
     "pushes": ("can_push(web, lot)", "push(web, lot, a, many)"),
     "changes": ("changed(web, change)", "touched(web, change)", "with_leaps(web, leaps)"),
+    "ends": ("told_share(web, lot, a)", "ends_of(web, lot, a)"),
+    "tables": ("table_of(web)", "lets_table(web, thing)"),
+    "kepttables": ("table_changed(web, table, change)",),
+    "lifts": ("share_behind(web, table, change, k)", "best_change(web, k, changes)", "worst_change(web, k, changes)"),
+    "rankings": ("is_ranking(many, thing)", "ranking_of(split)", "surely_ahead(web, lot)"),
+    "parts": ("is_closed(web, part)", "least_closed(web)"),
 }
 
 
