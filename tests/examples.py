@@ -43,9 +43,15 @@ class Numbers:
     def __init__(self, seed):
         self.state = seed
 
-    def below(self, many):
+    def drawn(self):
         self.state = (self.state * 6364136223846793005 + 1442695040888963407) % 2 ** 64
-        return (self.state >> 33) % many
+        return self.state >> 33
+
+    def below(self, many):
+        number, reach = self.drawn(), 2 ** 31
+        while reach < many:
+            number, reach = number * 2 ** 31 + self.drawn(), reach * 2 ** 31
+        return number % many
 
     def between(self, low, high):
         return low + self.below(high - low + 1)

@@ -21,7 +21,18 @@ LISTED = {
     "kepttables": ("table_changed(web, table, change)",),
     "lifts": ("share_behind(web, table, change, k)", "best_change(web, k, changes)", "worst_change(web, k, changes)"),
     "rankings": ("is_ranking(many, thing)", "ranking_of(split)", "surely_ahead(web, lot)"),
+    "primes": ("is_prime(thing)",),
+    "turned": ("turned_web(web, order)", "turned_split(split, order)", "turned_lot(lot, order)",
+               "turned_ranking(ranking, order)"),
+    "sweeps": ("end_of(web, lot)",),
+    "keptlots": ("lot_changed(web, lot, change)", "lot_with_leaps(web, lot, leaps)"),
+    "texts": ("show_web(web)", "show_lot(lot)", "show_fraction(one)", "show_ranking(web, ranking)"),
     "parts": ("is_closed(web, part)", "least_closed(web)"),
+}
+
+CLASSES = {
+    "keeper": ("Keeper(web, grains)", ("tie(self, change)", "leap(self, leaps)", "push(self, a, many)", "settle(self)",
+                                       "back(self)", "web(self)", "lot(self)", "ends(self, a)", "ahead(self)")),
 }
 
 
@@ -34,6 +45,17 @@ class InterfaceTest(unittest.TestCase):
                 self.assertTrue(inspect.isfunction(function), form)
                 self.assertEqual(function.__module__, module.__name__)
                 self.assertEqual(function.__name__ + str(inspect.signature(function)), form)
+
+    def test_classes_define_the_methods_that_are_listed(self):
+        for name, (form, methods) in CLASSES.items():
+            module = importlib.import_module("leapranks." + name)
+            made = getattr(module, form.split("(")[0])
+            self.assertEqual(made.__module__, module.__name__)
+            self.assertEqual(made.__name__ + str(inspect.signature(made)), form)
+            for method in methods:
+                function = vars(made)[method.split("(")[0]]
+                self.assertTrue(inspect.isfunction(function), method)
+                self.assertEqual(function.__name__ + str(inspect.signature(function)), method)
 
 
 if __name__ == "__main__":

@@ -110,10 +110,24 @@ class LanguageTest(unittest.TestCase):
                       [alias.name for alias in node.names] if isinstance(node, ast.ImportFrom) else
                       [target.id for target in node.targets] if isinstance(node, ast.Assign) else [])]
             self.assertEqual(len(outer), len(set(outer)), path)
-            for node in tree.body:
+            methods = [part for node in tree.body if isinstance(node, ast.ClassDef) for part in node.body]
+            for node in tree.body + methods:
                 if isinstance(node, ast.FunctionDef):
                     inner = set(bound_names(node)) - {node.name}
                     self.assertFalse(inner & set(outer), (path, node.name))
+
+    def test_no_name_is_a_method_and_an_attribute(self):
+        methods, fields = set(), set()
+        for path, tree in trees():
+            for node in ast.walk(tree):
+                if isinstance(node, ast.ClassDef):
+                    methods |= {part.name for part in node.body if isinstance(part, ast.FunctionDef)}
+                if isinstance(node, ast.Attribute) and isinstance(node.ctx, ast.Store):
+                    fields.add(node.attr)
+        self.assertFalse(methods & fields)
+        for name in methods - {"__init__"}:
+            for kind in (str, int, list, tuple, dict, set, bytes):
+                self.assertFalse(hasattr(kind, name), name)
 
     def test_builtins_and_methods(self):
         for path, tree in trees():

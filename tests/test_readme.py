@@ -17,8 +17,9 @@ class ReadmeTest(unittest.TestCase):
         shown = 0
         for line in "".join(blocks()).splitlines():
             code, sign, told = line.partition("#")
-            exec(code, known)
             name = re.match(r"(\w+) = ", code)
+            if name or not sign:
+                exec(code, known)
             if sign:
                 worth = known[name.group(1)] if name else eval(code, known)
                 self.assertTrue(told.strip().startswith(repr(worth)), (line, worth))
