@@ -21,11 +21,14 @@ def changed(web, change):
 
 def touched(web, change):
     """The places at which the column of the change's a differs ahead and behind, a rising list."""
+    return [place for place, more in enumerate(column_growth(web, change)) if more != 0]
+
+
+def column_growth(web, change):
+    """How much greater the column of the change's a is behind than ahead, place by place: a list."""
     behind = changed(web, change)
     a = change[0]
-    old_column = column_of(web, a)
-    new_column = column_of(behind, a)
-    return [place for place, (one, other) in enumerate(zip(old_column, new_column)) if one != other]
+    return [new - old for old, new in zip(column_of(web, a), column_of(behind, a))]
 
 
 def with_leaps(web, leaps):

@@ -1,18 +1,15 @@
 """Lots kept while a tie or the leaps change: goings stay, rests change at few places."""
 
-from leapranks.changes import changed, with_leaps
-from leapranks.columns import column_of
+from leapranks.changes import column_growth, with_leaps
 from leapranks.lots import rest_behind
 
 
 def lot_changed(web, lot, change):
     """The lot of the changed web, of a lot of the web as it was."""
-    behind = changed(web, change)
+    # Where the column doesn't grow, nothing is added: only the touched rests change.
+    growth = column_growth(web, change)
     grains, goings, rest = lot
-    a = change[0]
-    # Where the column is the same ahead and behind, nothing is added: only the touched rests change.
-    more = [new - old for old, new in zip(column_of(web, a), column_of(behind, a))]
-    return (grains, goings, tuple(rest_behind(rest, goings[a], more)))
+    return (grains, goings, tuple(rest_behind(rest, goings[change[0]], growth)))
 
 
 def lot_with_leaps(web, lot, leaps):

@@ -1,16 +1,14 @@
 """Tables kept while a tie changes: reckoned by the one changed column."""
 
-from leapranks.changes import changed
-from leapranks.columns import column_of
+from leapranks.changes import column_growth
 from leapranks.wholes import sum_of_products
 
 
 def table_changed(web, table, change):
     """The table of the changed web, of the table of the web as it was."""
-    behind = changed(web, change)
+    more = column_growth(web, change)
     a = change[0]
     one, rows = table
-    more = [new - old for old, new in zip(column_of(web, a), column_of(behind, a))]
     growths = [sum_of_products(row, more) for row in rows]
     new_one = one + growths[a]
     return (new_one, tuple(row_changed(one, new_one, row, growth, rows[a]) for row, growth in zip(rows, growths)))

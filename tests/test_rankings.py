@@ -49,6 +49,10 @@ class IsRankingTest(unittest.TestCase):
             self.told(many, tuple(range(many - 1)), False)
             self.told(many, tuple(range(many)) + (0,), False)
 
+    def test_one_to_ten_places(self):
+        self.told(0, (), False)
+        self.told(11, tuple(range(11)), False)
+
     def test_other_kinds(self):
         for thing in ([0, 1], "01", ("0", "1"), {0: 0, 1: 1}, (0, None), (0, (1,)), ((0, 1),), (0, [1]), None, 1):
             self.told(2, thing, False)
