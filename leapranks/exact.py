@@ -14,13 +14,14 @@ def exact_lot(web):
 
 
 def solved(lines):
-    """A tuple (one, rights), of the lines of a web's columns with further numbers at their ends.
+    """A tuple (one, rights), of the lines of columns with further numbers at their ends.
 
     Each right is a list, for a place: over one, its numbers solve the equations, end by end.
     One is the determinant of the columns.
     """
-    # In each column the number at its own place is greater than all others together without
-    # signs: so each pivot is from 1 on, taken just in turn, and the last one is the determinant.
+    # In each column the number at its own place is no less than all others together without signs;
+    # where it is just as great, these lead, place by place, to a column where it is greater. So each
+    # pivot is from 1 on, taken just in turn, and the last one is the determinant.
     many = len(lines)
     last = 1
     for at in range(many):

@@ -41,8 +41,19 @@ def worst_change(web, k, changes):
 
 
 def shares_behind(web, k, changes):
-    """The share of the place k behind each of the changes, a list; each is of the web as it is."""
-    if not isinstance(changes, list) or not 1 <= len(changes) <= MOST_CHANGES:
-        raise NoChange("no list of one to twelve changes")
+    """The share of the place k behind each of the changes, a list."""
+    look_at_changes(changes)
     table = table_of(web)
     return [share_behind(web, table, change, k) for change in changes]
+
+
+def webs_behind(web, changes):
+    """The web behind each of the changes, a list; each is of the web as it is."""
+    look_at_changes(changes)
+    return [changed(web, change) for change in changes]
+
+
+def look_at_changes(changes):
+    """Refuses what is no list of one to twelve things, whether these are changes or not."""
+    if not isinstance(changes, list) or not 1 <= len(changes) <= MOST_CHANGES:
+        raise NoChange("no list of one to twelve changes")

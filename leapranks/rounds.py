@@ -3,6 +3,7 @@
 from leapranks.fractions import fraction
 from leapranks.rows import row_of
 from leapranks.splits import split_of
+from leapranks.wholes import product_of
 
 
 def one_round(web, split):
@@ -19,9 +20,7 @@ def one_round(web, split):
 def come_by_rows(web, numbers):
     """A tuple (scale, coming): what comes to each place by rows, times scale, so that it is whole."""
     rows = [row_of(web, a) for a in range(len(numbers))]
-    scale = 1
-    for row in rows:
-        scale *= sum(row)
+    scale = product_of([sum(row) for row in rows])
     coming = [0] * len(numbers)
     for number, row in zip(numbers, rows):
         each = number * (scale // sum(row))

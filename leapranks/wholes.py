@@ -21,6 +21,14 @@ def sum_of_products(ones, others):
     return sum(x * y for x, y in zip(ones, others))
 
 
+def product_of(numbers):
+    """All numbers multiplied."""
+    product = 1
+    for number in numbers:
+        product *= number
+    return product
+
+
 def common_divisor(one, other):
     """The greatest number that divides both, from 0 on; 0 where both are 0."""
     one, other = abs(one), abs(other)
@@ -35,3 +43,17 @@ def common_divisor_of_all(numbers):
     for number in numbers:
         divisor = common_divisor(divisor, number)
     return divisor
+
+
+def first_small_rest(modulus, number, most):
+    """A tuple (rest, times): the first rest of dividing both by turns that is no greater than most.
+
+    Times that number leaves, divided by the modulus, what the rest leaves.
+    """
+    ahead, rest = modulus, number
+    times_ahead, times = 0, 1
+    while rest > most:
+        whole = ahead // rest
+        ahead, rest = rest, ahead - whole * rest
+        times_ahead, times = times, times_ahead - whole * times
+    return (rest, times)

@@ -28,11 +28,17 @@ LISTED = {
     "keptlots": ("lot_changed(web, lot, change)", "lot_with_leaps(web, lot, leaps)"),
     "texts": ("show_web(web)", "show_lot(lot)", "show_fraction(one)", "show_ranking(web, ranking)"),
     "parts": ("is_closed(web, part)", "least_closed(web)"),
+    "near": ("nearness_of(web, split)", "lets_near(web, thing)"),
+    "mixtures": ("shares_from(web, a)", "shares_by(web, table)"),
+    "liftpapers": ("lift_paper(web, k, changes)", "lets_lift(web, k, changes, thing)"),
+    "apart": ("apart(one, other)", "way_between(one, other)", "lies_between(one, middle, other)"),
+    "reader": ("read_web(text)", "read_lot(text)", "read_fraction(text)", "read_ranking(web, text)"),
 }
 
 CLASSES = {
     "keeper": ("Keeper(web, grains)", ("tie(self, change)", "leap(self, leaps)", "push(self, a, many)", "settle(self)",
                                        "back(self)", "web(self)", "lot(self)", "ends(self, a)", "ahead(self)")),
+    "desk": ("Desk(text, grains)", ("say(self, row)",)),
 }
 
 

@@ -28,6 +28,9 @@ breakpoint builtins compile copyright credits delattr dir eval exec exit gc geta
 importlib license locals methodcaller os quit setattr type vars sys""".split())
 BARRED_NODES = (ast.Global, ast.AsyncFunctionDef, ast.AsyncFor, ast.AsyncWith, ast.Await, ast.Div, ast.MatMult,
                 ast.Import)
+PLAIN_NODES = (ast.Constant, ast.Tuple, ast.List, ast.Dict, ast.Name, ast.BinOp, ast.UnaryOp, ast.USub, ast.Pow, ast.Load)
+TAKE_AT_ONCE = ("list", "tuple", "dict", "sorted", "sum", "any", "all", "enumerate", "zip", "min", "max", "len")
+TAKE_GENERATORS = ("list", "tuple", "dict", "sorted", "sum", "min", "max", "any", "all", "join")
 
 
 def trees():
@@ -45,6 +48,11 @@ def bound_names(tree):
             yield node.id
         elif isinstance(node, ast.alias):
             yield node.asname or node.name
+
+
+def called_name(node):
+    """The name that is called, where a node is a call of a plain name."""
+    return node.func.id if isinstance(node, ast.Call) and isinstance(node.func, ast.Name) else None
 
 
 class LanguageTest(unittest.TestCase):
@@ -130,15 +138,62 @@ class LanguageTest(unittest.TestCase):
                 self.assertFalse(hasattr(kind, name), name)
 
     def test_builtins_and_methods(self):
+        own = set()
+        for path, tree in trees():
+            for node in ast.walk(tree):
+                if isinstance(node, ast.ClassDef):
+                    own |= {part.name for part in node.body if isinstance(part, ast.FunctionDef)}
+                if isinstance(node, ast.Attribute) and isinstance(node.ctx, ast.Store):
+                    own.add(node.attr)
         for path, tree in trees():
             made = set(bound_names(tree))
-            fields = {node.attr for node in ast.walk(tree)
-                      if isinstance(node, ast.Attribute) and isinstance(node.ctx, ast.Store)}
             for node in ast.walk(tree):
                 if isinstance(node, ast.Name) and node.id not in made:
                     self.assertIn(node.id, BUILTINS, path)
-                if isinstance(node, ast.Attribute) and node.attr not in made:
-                    self.assertIn(node.attr, METHODS | fields, path)
+                if isinstance(node, ast.Attribute):
+                    self.assertIn(node.attr, METHODS | own, path)
+
+    def test_module_level_values_are_plain(self):
+        for path, tree in trees():
+            functions = set()
+            for node in tree.body:
+                if isinstance(node, ast.FunctionDef):
+                    functions.add(node.name)
+                if isinstance(node, ast.Assign):
+                    self.assertEqual([type(target) for target in node.targets], [ast.Name], path)
+                    for part in ast.walk(node.value):
+                        self.assertIsInstance(part, PLAIN_NODES, path)
+                        if isinstance(part, ast.Name):
+                            self.assertIn(part.id, functions, path)
+                        if part is not node.value:
+                            self.assertNotIsInstance(part, (ast.List, ast.Dict), path)
+
+    def test_where_sets_iterators_and_generators_stand(self):
+        for path, tree in trees():
+            for outer in ast.walk(tree):
+                for node in ast.iter_child_nodes(outer):
+                    called = outer.func if isinstance(outer, ast.Call) and outer.func is not node else None
+                    name = called.id if isinstance(called, ast.Name) else called.attr if called else None
+                    if isinstance(node, (ast.Set, ast.SetComp)) or called_name(node) == "set":
+                        self.assertTrue(name in ("sorted", "len") or isinstance(outer, ast.Compare), (path, node.lineno))
+                    if isinstance(node, ast.GeneratorExp):
+                        self.assertIn(name, TAKE_GENERATORS, (path, node.lineno))
+                    if called_name(node) in ("zip", "enumerate", "range", "reversed"):
+                        loops = isinstance(outer, (ast.For, ast.comprehension)) and outer.iter is node
+                        self.assertTrue(loops or name in TAKE_AT_ONCE, (path, node.lineno))
+
+    def test_raised_errors_are_made_on_the_spot(self):
+        for path, tree in trees():
+            for node in ast.walk(tree):
+                if isinstance(node, ast.Raise):
+                    self.assertRegex(called_name(node.exc), r"^(No|Too)[A-Z][a-z]+$", path)
+                if isinstance(node, ast.Call) and isinstance(node.func, ast.Name):
+                    words = [keyword.arg for keyword in node.keywords]
+                    self.assertIn(words, ([], ["key"]), (path, node.lineno))
+                if isinstance(node, ast.FunctionDef):
+                    given = node.args.defaults + node.args.kw_defaults
+                    self.assertTrue(all(isinstance(part, ast.Constant) for part in given), (path, node.name))
+                    self.assertFalse(node.decorator_list or node.args.posonlyargs, (path, node.name))
 
     def test_statements_and_values(self):
         for path, tree in trees():
