@@ -1,7 +1,7 @@
 """Mixtures: the shares of leaps of many kinds, mixed of those of leaps to one place."""
 
 from leapranks.changes import with_leaps
-from leapranks.shares import shares_by_goings, shares_of
+from leapranks.shares import split_by_goings, shares_of
 from leapranks.tables import unit
 from leapranks.wholes import sum_of_products
 
@@ -13,4 +13,4 @@ def shares_from(web, a):
 
 def shares_by(web, table):
     """The shares of the web, by a table that is let by."""
-    return shares_by_goings(web, [sum_of_products(row, web[2]) for row in table[1]])
+    return split_by_goings(web, [sum_of_products(row, web[2]) for row in table[1]])

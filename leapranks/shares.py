@@ -8,12 +8,12 @@ from leapranks.splits import is_split, split_of
 
 def shares_of(web):
     """The split that a round leaves as it is."""
-    return shares_by_goings(web, exact_lot(web)[1])
+    return split_by_goings(web, exact_lot(web)[1])
 
 
-def shares_by_goings(web, goings):
-    """The shares of the web, by goings of a lot without rests, or by as many times these."""
-    # A place's share is its going times its weight, by one measure for all places.
+def split_by_goings(web, goings):
+    """The split of walkers who go on from each place so often, by one measure for all places."""
+    # A going is one by each of the row's numbers: so a place's share is its going times its weight.
     return split_of(tuple(going * weight_of(web, a) for a, going in enumerate(goings)))
 
 

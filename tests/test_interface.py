@@ -32,6 +32,13 @@ LISTED = {
     "mixtures": ("shares_from(web, a)", "shares_by(web, table)"),
     "liftpapers": ("lift_paper(web, k, changes)", "lets_lift(web, k, changes, thing)"),
     "apart": ("apart(one, other)", "way_between(one, other)", "lies_between(one, middle, other)"),
+    "middles": ("ahead_by_most(rankings, a, b)", "sum_of(rankings, ranking)", "floor_of(rankings)", "middle_of(rankings)"),
+    "inflows": ("comes_in(web, split, part)",),
+    "staying": ("staying(web, part)",),
+    "byprime": ("goings_by(web, prime)",),
+    "putback": ("put_back(number, modulus, most)",),
+    "residues": ("span_of(web)", "exact_by(web, primes)"),
+    "looks": ("reach_of(web, lot)", "looked_at(web, thing, primes)"),
     "reader": ("read_web(text)", "read_lot(text)", "read_fraction(text)", "read_ranking(web, text)"),
 }
 

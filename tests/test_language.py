@@ -50,6 +50,18 @@ def bound_names(tree):
             yield node.asname or node.name
 
 
+def methods_and_fields():
+    """The names of all methods that the package's classes have, and of all attributes that it sets."""
+    methods, fields = set(), set()
+    for path, tree in trees():
+        for node in ast.walk(tree):
+            if isinstance(node, ast.ClassDef):
+                methods |= {part.name for part in node.body if isinstance(part, ast.FunctionDef)}
+            if isinstance(node, ast.Attribute) and isinstance(node.ctx, ast.Store):
+                fields.add(node.attr)
+    return methods, fields
+
+
 def called_name(node):
     """The name that is called, where a node is a call of a plain name."""
     return node.func.id if isinstance(node, ast.Call) and isinstance(node.func, ast.Name) else None
@@ -125,33 +137,21 @@ class LanguageTest(unittest.TestCase):
                     self.assertFalse(inner & set(outer), (path, node.name))
 
     def test_no_name_is_a_method_and_an_attribute(self):
-        methods, fields = set(), set()
-        for path, tree in trees():
-            for node in ast.walk(tree):
-                if isinstance(node, ast.ClassDef):
-                    methods |= {part.name for part in node.body if isinstance(part, ast.FunctionDef)}
-                if isinstance(node, ast.Attribute) and isinstance(node.ctx, ast.Store):
-                    fields.add(node.attr)
+        methods, fields = methods_and_fields()
         self.assertFalse(methods & fields)
         for name in methods - {"__init__"}:
             for kind in (str, int, list, tuple, dict, set, bytes):
                 self.assertFalse(hasattr(kind, name), name)
 
     def test_builtins_and_methods(self):
-        own = set()
-        for path, tree in trees():
-            for node in ast.walk(tree):
-                if isinstance(node, ast.ClassDef):
-                    own |= {part.name for part in node.body if isinstance(part, ast.FunctionDef)}
-                if isinstance(node, ast.Attribute) and isinstance(node.ctx, ast.Store):
-                    own.add(node.attr)
+        methods, fields = methods_and_fields()
         for path, tree in trees():
             made = set(bound_names(tree))
             for node in ast.walk(tree):
                 if isinstance(node, ast.Name) and node.id not in made:
                     self.assertIn(node.id, BUILTINS, path)
                 if isinstance(node, ast.Attribute):
-                    self.assertIn(node.attr, METHODS | own, path)
+                    self.assertIn(node.attr, METHODS | methods | fields, path)
 
     def test_module_level_values_are_plain(self):
         for path, tree in trees():

@@ -149,7 +149,13 @@ class LetsLiftTest(unittest.TestCase):
         for other in (0, 2, 3, -1, -2, HUGE, True, False, None, "1", (1,), [1]):
             self.told(PAIR, 0, CHANGES, (other, lots), False)
         self.told(PAIR, 0, [(0, 1, 0)], (0, [(1, (1, 0), (0, 0))]), True)
-        self.told(PAIR, 0, [(0, 1, 0)], (False, [(1, (1, 0), (0, 0))]), False)
+        for other in (False, -1, 1):
+            self.told(PAIR, 0, [(0, 1, 0)], (other, [(1, (1, 0), (0, 0))]), False)
+        # The last one is the best here, but it isn't numbered from behind.
+        at, lots = lift_paper(PAIR, 0, CHANGES[:2])
+        self.assertEqual(at, 1)
+        for other in (-1, -2, 2):
+            self.told(PAIR, 0, CHANGES[:2], (other, lots), False)
 
     def test_lots_exchanged_left_out_or_too_many(self):
         numbers = Numbers(122)
