@@ -1,7 +1,7 @@
 """Mixtures: the shares of leaps of many kinds, mixed of those of leaps to one place."""
 
 from leapranks.changes import with_leaps
-from leapranks.shares import split_by_goings, shares_of
+from leapranks.shares import shares_of, split_by_goings
 from leapranks.tables import unit
 from leapranks.wholes import sum_of_products
 

@@ -6,7 +6,7 @@ from leapranks.errors import NoPrime, TooFew
 from leapranks.exact import exact_lot
 from leapranks.looks import looked_at, reach_of
 from leapranks.lots import begun, is_lot, lot_by
-from tests.examples import (HUGE, LONE, OF_ANY_KIND, PAIR, PAIR_FALLS, TEN, THREE, THREE_FALLS, Numbers, all_webs, left_alone,
+from tests.examples import (HUGE, LONE, OF_ANY_KIND, PAIR, PAIR_FALLS, TEN, THREE, THREE_FALLS, Numbers, left_alone,
                             with_part)
 from tests.test_byprime import GREAT_PRIMES
 from tests.test_ends import THIRTY, lots_of_all_kinds
